@@ -1,0 +1,1 @@
+"""Changehall: exchanges that go both ways."""
