@@ -152,9 +152,63 @@ def node_faults(node, methods):
         yield "L17 attribute " + node.attr
 
 
+# L23: what may hold a walk, besides a for, a comprehension and the join of a text.
+WALKERS = ["list", "tuple", "dict", "sorted", "sum", "any", "all", "enumerate", "zip"]
+
+
+def is_walk(node):
+    if not isinstance(node, ast.Call):
+        return False
+    if isinstance(node.func, ast.Name):
+        return node.func.id in ("zip", "enumerate", "reversed", "range")
+    return isinstance(node.func, ast.Attribute) and node.func.attr in ("items", "keys", "values")
+
+
+def walk_faults(tree):
+    on_the_spot = []
+    for node in ast.walk(tree):
+        if isinstance(node, (ast.For, ast.comprehension)):
+            on_the_spot.append(node.iter)
+        elif isinstance(node, ast.Call) and isinstance(node.func, ast.Name):
+            if node.func.id in WALKERS or node.func.id in ("min", "max") and len(node.args) == 1:
+                on_the_spot.extend(node.args[:1])
+        elif isinstance(node, ast.Call) and isinstance(node.func, ast.Attribute) and node.func.attr == "join":
+            on_the_spot.extend(node.args)
+    for node in ast.walk(tree):
+        if is_walk(node) and node not in on_the_spot:
+            yield "L23 walk that is kept"
+
+
+CHANGES = ["append", "clear", "extend", "insert", "pop", "remove", "reverse", "setdefault", "update"]
+
+
+def names_walked(node):
+    if is_walk(node) and isinstance(node.func, ast.Attribute):
+        return names_walked(node.func.value)
+    if is_walk(node) and node.func.id != "range":
+        return [name for one in node.args for name in names_walked(one)]
+    return [node.id] if isinstance(node, ast.Name) else []
+
+
+def changed_names(loop):
+    for node in ast.walk(loop):
+        if isinstance(node, ast.Subscript) and isinstance(node.ctx, ast.Store) and isinstance(node.value, ast.Name):
+            yield node.value.id
+        if isinstance(node, ast.Call) and isinstance(node.func, ast.Attribute) and node.func.attr in CHANGES:
+            if isinstance(node.func.value, ast.Name):
+                yield node.func.value.id
+
+
+def loop_faults(tree):
+    for node in ast.walk(tree):
+        if isinstance(node, ast.For) and set(names_walked(node.iter)) & set(changed_names(node)):
+            yield "L23 changed while it is walked"
+
+
 def faults(text, methods):
     tree = ast.parse(text)
     found = list(sign_faults(text)) + list(name_faults(tree)) + list(import_faults(tree)) + list(top_faults(tree))
+    found.extend(list(walk_faults(tree)) + list(loop_faults(tree)))
     for node in ast.walk(tree):
         found.extend(node_faults(node, methods))
     return found
@@ -220,6 +274,8 @@ class LanguageTest(unittest.TestCase):
                  "def f(_a):\n    return 1", "def f(a):\n    return all(x for x in a)", "x = 'caf\u00e9'", "x = 1\t",
                  "def f(a):\n" + "    a()\n" * 40, "x = '" + "a" * 120 + "'", "def f(a):\n    yield a",
                  "def f(a):\n    return sorted(a, strict=True)", "def f(a):\n    return isinstance(a, object)",
+                 "def f(a):\n    return reversed(range(a))", "def f(a):\n    b = zip(a, a)\n    return list(b)",
+                 "def f(a):\n    for x in a:\n        a.append(x)", "def f(a):\n    for k, x in enumerate(a):\n        a[k] = x",
                  "class A:\n    pass\ndef f(A):\n    return A", "def f():\n    pass\ndef f():\n    pass"]
         for text in wrong:
             with self.subTest(text=text):
