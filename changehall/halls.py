@@ -31,13 +31,22 @@ def hall_of(kinds, bills):
         raise NoHall("bills are a list of at most 8")
     for bill in bills:
         need_bill(bill, kinds)
-    return (kinds, tuple([tuple(bill) for bill in bills]))
+    return hall_by(kinds, bills)
+
+
+# Halls that are told have no bounds but the kinds, so these are not looked at again.
+def hall_by(kinds, rows):
+    return (kinds, tuple([tuple(row) for row in rows]))
 
 
 # A basket may have numbers of any length: only its form is looked at.
-def need_basket(hall, basket):
-    if not is_row(basket, hall[0]):
+def need_basket_of(kinds, basket):
+    if not is_row(basket, kinds):
         raise NoBasket("a basket is a list with one whole number for each kind")
+
+
+def need_basket(hall, basket):
+    need_basket_of(hall[0], basket)
 
 
 def nought(hall):

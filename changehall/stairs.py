@@ -4,7 +4,7 @@ The rows of a stair are called rungs where they need not be those of a hall.
 """
 from changehall.halls import need_basket
 from changehall.rows import added, head_at, scaled, taken, unit_row
-from changehall.whole import bridge
+from changehall.whole import bridge, product
 
 
 # The counts tell how often each rung was taken away from the row to leave what is left.
@@ -84,6 +84,10 @@ def tags_of_rungs(rungs, width):
 
 def tags_at_nought(rungs, width):
     return [rung[width:] for rung in rungs if head_at(rung) >= width]
+
+
+def heads_product(rungs):
+    return product([rung[head_at(rung)] for rung in rungs])
 
 
 def stair(hall):

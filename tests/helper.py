@@ -1,5 +1,6 @@
 """What several tests need in common: halls made by chance from a fixed seed, wrong baskets, plain reckoning."""
 import copy
+import itertools
 import random
 
 from changehall.halls import hall_of
@@ -71,6 +72,26 @@ def led(hall, basket, uses):
     for bill, often in zip(hall[1], uses, strict=True):
         told = plus(told, times(bill, often))
     return told
+
+
+def minus(one, other):
+    return [a - b for a, b in zip(one, other, strict=True)]
+
+
+def heads_of(rows):
+    return [next(spot for spot, number in enumerate(row) if number) for row in rows]
+
+
+# By the long way, so that it says something about the short ones.
+def primes_of(number):
+    found = []
+    for prime in itertools.count(2):
+        if prime * prime > number:
+            break
+        while number % prime == 0:
+            found.append(prime)
+            number //= prime
+    return sorted(set(found + [number] if number > 1 else found))
 
 
 def units(kinds):

@@ -7,12 +7,8 @@ from changehall.halls import hall_of
 from changehall.plans import alike, idle, idle_by, plan, settled
 from changehall.stairs import stair
 
-from helper import (LONG, asked_twice, edge_halls, led, long_halls, of_figures, plus, small_halls, some_row, times,
-                    wrong_baskets)
-
-
-def heads_of(rows):
-    return [next(spot for spot, number in enumerate(row) if number) for row in rows]
+from helper import (LONG, asked_twice, edge_halls, heads_of, led, long_halls, of_figures, plus, small_halls, some_row,
+                    times, wrong_baskets)
 
 
 def all_halls(seed):

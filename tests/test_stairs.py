@@ -6,12 +6,8 @@ from changehall.errors import NoBasket
 from changehall.halls import hall_of
 from changehall.stairs import bills_by, stair, stair_by, token
 
-from helper import (LONG, asked_twice, edge_halls, led, long_halls, of_figures, plus, small_halls, some_row, times,
-                    wrong_baskets)
-
-
-def heads_of(rows):
-    return [next(spot for spot, number in enumerate(row) if number) for row in rows]
+from helper import (LONG, asked_twice, edge_halls, heads_of, led, long_halls, of_figures, plus, small_halls, some_row,
+                    times, wrong_baskets)
 
 
 # What baskets can be reached in a small hall of one or two kinds, by rests of every basket in a square.
