@@ -4,7 +4,6 @@ from changehall.rows import added, is_row, is_whole, mixed, noughts, taken
 
 MOST_KINDS = 6
 MOST_BILLS = 8
-NUMBERS_BELOW = 10 ** 30
 
 
 def are_kinds(value):
@@ -12,7 +11,7 @@ def are_kinds(value):
 
 
 def is_bill(value, kinds):
-    return is_row(value, kinds) and all([abs(number) < NUMBERS_BELOW for number in value])
+    return is_row(value, kinds) and all([abs(number) < 10 ** 30 for number in value])
 
 
 def need_kinds(kinds):
